@@ -21,6 +21,12 @@ const (
 	maxBase = api.MaxKey / 2
 )
 
+// Task is a task at its point.
+type Task struct {
+	ID, W int
+	Point int64
+}
+
 // Q holds tasks at their points, and knows which of them runs.
 type Q struct {
 	base    int64
@@ -84,7 +90,7 @@ func (q *Q) Leave(id int) (int64, api.Errno) {
 		q.cur = nobody
 	}
 	// The task leaves by the base that it had, not by that of those who stay.
-	lag := q.lag(x)
+	lag := q.lag(x.Key)
 	q.raise()
 	return lag, api.OK
 }
@@ -100,6 +106,24 @@ func (q *Q) Weigh(id, w int) api.Errno {
 	// No point changes, so neither does the base.
 	q.weights[id] = w
 	return api.OK
+}
+
+// Find tells the task with an ID, or false if there is none.
+func (q *Q) Find(id int) (Task, bool) {
+	point, there := q.points.Key(id)
+	if !there {
+		return Task{}, false
+	}
+	return Task{ID: id, W: q.weights[id], Point: point}, true
+}
+
+// List tells all tasks, in the order of their points and then of their IDs.
+func (q *Q) List() []Task {
+	l := make([]Task, 0, q.points.Len())
+	for _, x := range q.points.All() {
+		l = append(l, Task{ID: x.ID, W: q.weights[x.ID], Point: x.Key})
+	}
+	return l
 }
 
 // Cur tells the task that runs, with its point as the key, or false if none
@@ -125,8 +149,17 @@ func (q *Q) PickLeast() (int, bool) {
 		q.cur = nobody
 		return 0, false
 	}
-	q.cur = x.ID
-	return x.ID, true
+	return q.Pick(x.ID)
+}
+
+// Pick lets the task with an ID run; if there is none, no task runs.
+func (q *Q) Pick(id int) (int, bool) {
+	if _, there := q.weights[id]; !there {
+		q.cur = nobody
+		return 0, false
+	}
+	q.cur = id
+	return id, true
 }
 
 // Charge moves the task that runs by a tick.
@@ -154,8 +187,8 @@ func (q *Q) Back() bool {
 // Form tells what each is owed.
 func (q *Q) Form() owed.Form {
 	l := make([]owed.Item, 0, q.points.Len())
-	for _, x := range q.points.All() {
-		l = append(l, owed.Item{ID: x.ID, W: q.weights[x.ID], Lag: q.lag(x)})
+	for _, x := range q.List() {
+		l = append(l, owed.Item{ID: x.ID, W: x.W, Lag: q.lag(x.Point)})
 	}
 	slices.SortFunc(l, func(a, b owed.Item) int { return cmp.Compare(a.ID, b.ID) })
 	return owed.Form{Cur: q.cur, L: l}
@@ -190,9 +223,9 @@ func (q *Q) point(lag int64) int64 {
 	return q.base - lag
 }
 
-// lag answers what a task is owed.
-func (q *Q) lag(x ordq.Item) int64 {
-	return q.base - x.Key
+// lag answers what a task at a point is owed.
+func (q *Q) lag(point int64) int64 {
+	return q.base - point
 }
 
 // raise lets the base follow the least point, so that someone is owed at least

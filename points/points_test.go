@@ -2,6 +2,7 @@ package points
 
 import (
 	"math"
+	"slices"
 	"testing"
 
 	"stadholder/api"
@@ -66,6 +67,53 @@ func TestLeastAndCur(t *testing.T) {
 		}
 		if x, runs := q.Cur(); x != (ordq.Item{}) || runs {
 			t.Errorf("P11.1, P12.1: Cur after Back: %v, %t", x, runs)
+		}
+	}
+}
+
+// TestTasks: all tasks are told in the order of their points, and one by its
+// ID, as they are after each call.
+func TestTasks(t *testing.T) {
+	q := grown(t, 100, -1)
+	for i, c := range []struct {
+		do   func()
+		want []Task
+	}{
+		{func() {}, nil},
+		{func() { q.Put(4, 2, 5) }, []Task{{4, 2, 95}}},
+		{func() { q.Put(0, 20, -9) }, []Task{{4, 2, 95}, {0, 20, 109}}},
+		{func() { q.Put(7, 1, 5); q.Put(3, 3, 5) }, []Task{{3, 3, 95}, {4, 2, 95}, {7, 1, 95}, {0, 20, 109}}},
+		{func() { q.Weigh(4, 1); q.Weigh(9, 1) }, []Task{{3, 3, 95}, {4, 1, 95}, {7, 1, 95}, {0, 20, 109}}},
+		{func() { q.Pick(4); q.Charge() }, []Task{{3, 3, 95}, {7, 1, 95}, {0, 20, 109}, {4, 1, 95 + api.Scale}}},
+		{func() { q.Leave(7); q.Leave(7) }, []Task{{3, 3, 95}, {0, 20, 109}, {4, 1, 95 + api.Scale}}},
+		{func() { q.Leave(3) }, []Task{{0, 20, 109}, {4, 1, 95 + api.Scale}}},
+	} {
+		c.do()
+		l := q.List()
+		if !slices.Equal(l, c.want) {
+			t.Errorf("P13.1: List after call %d: %v, want %v", i, l, c.want)
+		}
+		for id := -1; id < 9; id++ {
+			at := slices.IndexFunc(c.want, func(x Task) bool { return x.ID == id })
+			if x, there := q.Find(id); there != (at >= 0) || there && x != c.want[at] || !there && x != (Task{}) {
+				t.Errorf("P13.1: Find(%d) after call %d: %v, %t", id, i, x, there)
+			}
+		}
+	}
+}
+
+// TestPick: a task runs from then on, or none if there is no such task.
+func TestPick(t *testing.T) {
+	q := grown(t, 100, 2, owed.Item{ID: 0, W: 1, Lag: 0}, owed.Item{ID: 2, W: 1, Lag: -5})
+	for _, c := range []struct {
+		id, want int
+		there    bool
+	}{{0, 0, true}, {2, 2, true}, {2, 2, true}, {1, 0, false}, {0, 0, true}, {-1, 0, false}, {math.MinInt, 0, false}, {2, 2, true}, {math.MaxInt, 0, false}} {
+		if id, there := q.Pick(c.id); id != c.want || there != c.there {
+			t.Errorf("P13.1: Pick(%d): %d, %t", c.id, id, there)
+		}
+		if x, runs := q.Cur(); runs != c.there || x.ID != c.want {
+			t.Errorf("P13.1: Cur after Pick(%d): %v, %t", c.id, x, runs)
 		}
 	}
 }
